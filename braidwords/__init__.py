@@ -1,0 +1,1 @@
+"""Braidwords: what one sees in mirrors, one behind the other."""

@@ -1,0 +1,24 @@
+"""Of what kind a value is, whatever it is."""
+
+# As many letters as mirrors may have.
+ALPHABET = "abcdef"
+
+
+def is_integer(value):
+    """Whether it is an integer; True and False are none."""
+    return isinstance(value, int) and not isinstance(value, bool)
+
+
+def is_integer_between(value, low, high):
+    """Whether it is an integer from `low` to `high`."""
+    return is_integer(value) and low <= value <= high
+
+
+def is_letter(letters, value):
+    """Whether it is one of these letters."""
+    return isinstance(value, str) and len(value) == 1 and value in letters
+
+
+def is_lot(letters, value):
+    """Whether it is a string of unlike ones of these letters, ascending."""
+    return isinstance(value, str) and value == "".join([x for x in letters if x in value])

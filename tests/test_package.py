@@ -1,0 +1,118 @@
+"""The rules of LANGUAGE.md that can be seen line by line (L1, L2, L4, L6, L7, L8, L10, L14 to L17)."""
+
+import ast
+import builtins
+import pathlib
+import unittest
+
+FOLDER = pathlib.Path(__file__).parent.parent / "braidwords"
+FILES = sorted(path for path in FOLDER.rglob("*") if path.is_file() and path.suffix != ".pyc")
+
+# The functions, classes and errors of Python that a file may name.
+ALLOWED = set(
+    "len range enumerate zip map min max sum abs sorted reversed int str bool bytes list tuple dict set isinstance ord "
+    "repr any all divmod pow getattr hasattr setattr iter next type super property classmethod staticmethod object "
+    "Exception ValueError TypeError KeyError IndexError LookupError ZeroDivisionError ArithmeticError OverflowError "
+    "RuntimeError NotImplementedError AttributeError StopIteration NotImplemented".split())
+
+LIBRARY = {
+    "heapq": {"heappush", "heappop", "heapify", "heapreplace", "heappushpop"},
+    "math": {"gcd", "lcm", "isqrt", "comb", "perm", "factorial"},
+    "itertools": {"product", "combinations", "permutations", "chain", "accumulate", "pairwise", "islice",
+                  "zip_longest"},
+    "collections": {"defaultdict", "deque"},
+}
+
+BARRED = set("mro elements open input law version_info with_traceback add_note register".split())
+
+
+class PackageTest(unittest.TestCase):
+    def trees(self):
+        for path in FILES:
+            yield path.name, ast.parse(path.read_text())
+
+    def test_files(self):
+        self.assertIn(FOLDER / "__init__.py", FILES)
+        for path in FILES:
+            self.assertRegex(path.name, r"\A[a-z0-9_]+\.py\Z")
+
+    def test_characters_and_sizes(self):
+        for path in FILES:
+            data = path.read_bytes()
+            self.assertLessEqual(set(data), {10, *range(32, 127)}, path.name)
+            lines = data.decode().split("\n")
+            self.assertLessEqual(len(lines), 400, path.name)
+            self.assertLessEqual(max(map(len, lines)), 120, path.name)
+
+    def test_sizes_of_functions(self):
+        for name, tree in self.trees():
+            for node in ast.walk(tree):
+                if isinstance(node, ast.FunctionDef):
+                    self.assertLessEqual(node.end_lineno - node.lineno + 1, 40, (name, node.name))
+
+    def test_imports(self):
+        for name, tree in self.trees():
+            for node in ast.walk(tree):
+                self.assertNotIsInstance(node, ast.Import, name)
+                if isinstance(node, ast.ImportFrom):
+                    self.assertIn(node, tree.body, name)
+                    self.assert_right_import(node)
+
+    def assert_right_import(self, node):
+        self.assertEqual(node.level, 0)
+        for alias in node.names:
+            self.assertNotEqual(alias.name, "*")
+            self.assertIsNone(alias.asname)
+            if node.module in LIBRARY:
+                self.assertIn(alias.name, LIBRARY[node.module])
+            else:
+                path = FOLDER.parent / (node.module.replace(".", "/") + ".py")
+                self.assertIn(path, FILES)
+                self.assertIn(alias.name, self.bound(ast.parse(path.read_text())))
+
+    def bound(self, tree):
+        """The names that a file itself defines."""
+        told = []
+        for node in tree.body:
+            if isinstance(node, (ast.FunctionDef, ast.ClassDef)):
+                told.append(node.name)
+            elif isinstance(node, ast.Assign):
+                told.extend(target.id for target in node.targets)
+        return told
+
+    def test_module_level(self):
+        for name, tree in self.trees():
+            self.assertIsNotNone(ast.get_docstring(tree), name)
+            for node in tree.body[1:]:
+                self.assertIsInstance(node, (ast.ImportFrom, ast.FunctionDef, ast.ClassDef, ast.Assign), name)
+            bound = self.bound(tree)
+            self.assertEqual(len(bound), len(set(bound)), name)
+
+    def test_decorators(self):
+        for name, tree in self.trees():
+            for node in ast.walk(tree):
+                for told in getattr(node, "decorator_list", []):
+                    self.assertIn(ast.unparse(told), ("property", "classmethod", "staticmethod"), name)
+
+    def test_names(self):
+        for name, tree in self.trees():
+            for node in ast.walk(tree):
+                if isinstance(node, ast.Name):
+                    self.assertNotIn(node.id, BARRED, name)
+                    if node.id in dir(builtins):
+                        self.assertIn(node.id, ALLOWED, name)
+                        self.assertIsInstance(node.ctx, ast.Load, name)
+                for told in ("name", "arg", "attr"):
+                    self.assertNotIn(getattr(node, told, None), BARRED, name)
+
+    def test_signs(self):
+        for name, tree in self.trees():
+            for node in ast.walk(tree):
+                self.assertNotIsInstance(
+                    node, (ast.Global, ast.AsyncFunctionDef, ast.Await, ast.Div, ast.MatMult), name)
+                if isinstance(node, ast.Constant):
+                    self.assertNotIsInstance(node.value, (float, complex), name)
+
+
+if __name__ == "__main__":
+    unittest.main()
