@@ -1,5 +1,7 @@
 """Of what kind a value is, whatever it is."""
 
+from braidwords.limits import MOST_WORD
+
 # As many letters as mirrors may have.
 ALPHABET = "abcdef"
 
@@ -22,3 +24,8 @@ def is_letter(letters, value):
 def is_lot(letters, value):
     """Whether it is a string of unlike ones of these letters, ascending."""
     return isinstance(value, str) and value == "".join([x for x in letters if x in value])
+
+
+def is_word(letters, value):
+    """Whether it is a word of these letters."""
+    return isinstance(value, str) and len(value) <= MOST_WORD and all([x in letters for x in value])

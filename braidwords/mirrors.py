@@ -1,7 +1,8 @@
 """Mirrors and the angle numbers between them."""
 
-from braidwords.errors import InvalidAngles, InvalidLetter, InvalidLot, InvalidNumber, InvalidText, NotMirrors
-from braidwords.kinds import ALPHABET, is_integer, is_integer_between, is_letter, is_lot
+from braidwords.errors import InvalidAngles, InvalidLetter, InvalidLot, InvalidNumber, InvalidText, InvalidWord
+from braidwords.errors import NotMirrors
+from braidwords.kinds import ALPHABET, is_integer, is_integer_between, is_letter, is_lot, is_word
 from braidwords.limits import MOST_LETTERS
 
 # The angle number of two mirrors of which nothing is told.
@@ -108,6 +109,14 @@ def check_lot(mirrors, lot):
     """Refuses what is no lot of letters of these mirrors."""
     if not is_lot(mirrors.letters, lot):
         raise InvalidLot(lot)
+
+
+def check_words(mirrors, *words):
+    """Refuses what is no mirrors, then the first one that is no word for them."""
+    check_mirrors(mirrors)
+    for word in words:
+        if not is_word(mirrors.letters, word):
+            raise InvalidWord(word)
 
 
 def number_between(mirrors, low, high):

@@ -5,44 +5,7 @@ import unittest
 
 from braidwords.errors import InvalidAngles, InvalidLetter, InvalidLot, InvalidNumber, InvalidText, NotMirrors
 from braidwords.mirrors import Mirrors, angle, part
-from helper import ANYTHING, Case, anything_but
-
-ALL = "abcdef"
-NUMBERS = (2, 3, 4, 6, 0)
-
-
-def pairs_of(size):
-    return list(itertools.combinations(ALL[:size], 2))
-
-
-def triples(size, numbers):
-    """The angles with these numbers, one for each two letters."""
-    return tuple((x, y, m) for (x, y), m in zip(pairs_of(size), numbers) if m != 2)
-
-
-def all_angles(size):
-    """All the angles that mirrors of this size may have."""
-    return [triples(size, numbers) for numbers in itertools.product(NUMBERS, repeat=len(pairs_of(size)))]
-
-
-def text_told(size, angles):
-    text = ALL[:size]
-    for x, y, m in angles:
-        text = text + " " + x + y + str(m)
-    return text
-
-
-def spread(size):
-    """Some angles of a size, so that each two letters have each number in some of them."""
-    many = len(pairs_of(size))
-    return [triples(size, [NUMBERS[(k * step + shift) % 5] for k in range(many)])
-            for step in range(5) for shift in range(5)]
-
-
-def some_mirrors():
-    """All mirrors of up to three letters and some of each greater size."""
-    small = [Mirrors(size, angles) for size in (1, 2, 3) for angles in all_angles(size)]
-    return small + [Mirrors(size, angles) for size in (4, 5, 6) for angles in spread(size)]
+from helper import ALL, ANYTHING, Case, all_angles, anything_but, pairs_of, some_mirrors, spread, text_told, triples
 
 
 class InterfaceTest(Case):

@@ -1,4 +1,4 @@
-"""The rules of LANGUAGE.md that can be seen line by line (L1, L2, L4, L6, L7, L8, L10, L14 to L17)."""
+"""The rules of LANGUAGE.md that can be seen line by line (L1, L2, L4, L6 to L8, L10, L14 to L18, L20, L23 to L25)."""
 
 import ast
 import builtins
@@ -22,6 +22,12 @@ LIBRARY = {
                   "zip_longest"},
     "collections": {"defaultdict", "deque"},
 }
+
+# The methods of builtin values; what else is called off a value is a method of the package.
+METHODS = set(
+    "append clear copy count endswith extend find get index insert isalnum isalpha isdigit islower isspace isupper items "
+    "join keys ljust lower lstrip partition pop remove replace reverse rfind rjust rpartition rsplit rstrip setdefault "
+    "split splitlines startswith strip update upper values zfill bit_length".split())
 
 BARRED = set("mro elements open input law version_info with_traceback add_note register".split())
 
@@ -112,6 +118,51 @@ class PackageTest(unittest.TestCase):
                     node, (ast.Global, ast.AsyncFunctionDef, ast.Await, ast.Div, ast.MatMult), name)
                 if isinstance(node, ast.Constant):
                     self.assertNotIsInstance(node.value, (float, complex), name)
+
+    def test_methods(self):
+        trees = list(self.trees())
+        own = {node.name for _, tree in trees for node in ast.walk(tree) if isinstance(node, ast.FunctionDef)}
+        for name, tree in trees:
+            for node in ast.walk(tree):
+                if isinstance(node, ast.Call) and isinstance(node.func, ast.Attribute):
+                    self.assertIn(node.func.attr, METHODS | own, name)
+
+    def test_lists_instead_of_generator_expressions(self):
+        # A class here has an __eq__, so any, all, sum and their kind take a list.
+        for name, tree in self.trees():
+            for node in ast.walk(tree):
+                self.assertNotIsInstance(node, ast.GeneratorExp, name)
+
+    def test_is_only_beside_none_true_and_false(self):
+        for name, tree in self.trees():
+            for node in ast.walk(tree):
+                if isinstance(node, ast.Compare):
+                    for sign, value in zip(node.ops, node.comparators):
+                        if isinstance(sign, (ast.Is, ast.IsNot)):
+                            self.assertIsInstance(value, ast.Constant, name)
+                            self.assertIn(value.value, (None, True, False), name)
+
+    def test_locals_do_not_hide_what_the_file_binds(self):
+        for name, tree in self.trees():
+            told = {node.name for node in tree.body if isinstance(node, (ast.FunctionDef, ast.ClassDef))}
+            told |= {alias.name for node in tree.body if isinstance(node, ast.ImportFrom) for alias in node.names}
+            for node in ast.walk(tree):
+                if isinstance(node, ast.arg):
+                    self.assertNotIn(node.arg, told, name)
+                elif isinstance(node, ast.Name) and isinstance(node.ctx, ast.Store):
+                    self.assertNotIn(node.id, told, name)
+
+    def test_no_two_files_import_from_each_other(self):
+        needs = {}
+        for name, tree in self.trees():
+            modules = [node.module for node in tree.body if isinstance(node, ast.ImportFrom)]
+            needs[name] = {module.split(".")[-1] + ".py" for module in modules}
+        self.assertNotIn("elements.py", set().union(*needs.values()))
+        while needs:
+            free = [name for name in needs if not needs[name] & set(needs)]
+            self.assertNotEqual(free, [])
+            for name in free:
+                del needs[name]
 
 
 if __name__ == "__main__":
