@@ -6,6 +6,7 @@ import random
 import unittest
 
 from braidwords.errors import InvalidWord, NotMirrors
+from braidwords.lengths import is_shortest
 from braidwords.mirrors import Mirrors
 
 ALL = "abcdef"
@@ -286,6 +287,15 @@ def walked(draw, mirrors, word, moves):
             found.append(word[:k] + x + x + word[k:])
         if found:
             word = draw.choice(found)
+    return word
+
+
+def longest_word(mirrors):
+    """A shortest word that no letter put behind makes longer; there must be an end of them."""
+    word, longer = "", True
+    while longer:
+        longer = [x for x in mirrors.letters if is_shortest(mirrors, word + x)]
+        word += "".join(longer[:1])
     return word
 
 

@@ -9,8 +9,8 @@ from braidwords.errors import InvalidIndex, InvalidWord, NotShortest
 from braidwords.lengths import first_word, is_shortest, length, struck
 from braidwords.mirrors import Mirrors
 from braidwords.sending import is_alike
-from helper import ANYTHING, Case, Plain, all_alike, beside, chain, drawn_word, drawn_words, numbers_of
-from helper import plain_turnings, small_mirrors, some_mirrors, wrong_mirrors, wrong_words
+from helper import ANYTHING, Case, Plain, all_alike, beside, chain, drawn_word, drawn_words, longest_word
+from helper import numbers_of, plain_turnings, small_mirrors, some_mirrors, wrong_mirrors, wrong_words
 
 THREE = Mirrors(3, (("a", "b", 3), ("b", "c", 3)))
 RING = Mirrors.read("abc ab3 ac3 bc3")
@@ -25,15 +25,6 @@ def fillings(*rows):
         for x in range(row):
             hooks *= row - x + sum(1 for other in rows[y + 1:] if other > x)
     return math.factorial(sum(rows)) // hooks
-
-
-def longest_word(mirrors):
-    """A word that no letter put behind makes longer."""
-    word, longer = "", True
-    while longer:
-        longer = [x for x in mirrors.letters if is_shortest(mirrors, word + x)]
-        word += "".join(longer[:1])
-    return word
 
 
 def all_turned(mirrors, word):

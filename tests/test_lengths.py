@@ -7,8 +7,8 @@ import unittest
 from braidwords.errors import InvalidWord
 from braidwords.lengths import first_word, is_shortest, left_shorteners, length, shorteners, struck
 from braidwords.mirrors import Mirrors
-from helper import ENDLESS, FINITE, MODELS, Case, Plain, all_alike, as_free, drawn_words, renamed, small_mirrors
-from helper import some_mirrors, walked, wrong_mirrors, wrong_words
+from helper import ENDLESS, FINITE, MODELS, Case, Plain, all_alike, as_free, drawn_words, longest_word, renamed
+from helper import small_mirrors, some_mirrors, walked, wrong_mirrors, wrong_words
 
 THREE = Mirrors(3, (("a", "b", 3), ("b", "c", 3)))
 RING = Mirrors.read("abc ab3 ac3 bc3")
@@ -23,14 +23,6 @@ def plain_struck(word, comes_to):
         if comes_to(word[:i] + word[i + 1:j] + word[j + 1:]) == comes_to(word):
             return (i, j)
     return None
-
-
-def longest_of(mirrors):
-    """A word that each letter shortens, made letter by letter."""
-    word = ""
-    while shorteners(mirrors, word) != mirrors.letters:
-        word += min(set(mirrors.letters) - set(shorteners(mirrors, word)))
-    return word
 
 
 class InterfaceTest(Case):
@@ -160,7 +152,7 @@ class LongestTest(Case):
             for turn in range(3):
                 size = len(text.split(" ")[0])
                 mirrors = renamed(text, draw.sample("abcdef"[:size], size) if turn else "abcdef")
-                word = longest_of(mirrors)
+                word = longest_word(mirrors)
                 self.assertEqual(len(word), many)
                 self.same(length(mirrors, word), many)
                 self.assertIsNone(struck(mirrors, word))
@@ -178,7 +170,7 @@ class LongestTest(Case):
         for text, right in [("a", "a"), ("ab", "ab"), ("ab ab3", "aba"), ("ab ab4", "abab"), ("ab ab6", "ababab"),
                             ("abc ab3 bc3", "abacba"), ("abcdef", "abcdef"), ("abcd ab3 cd4", "abacdcd")]:
             mirrors = Mirrors.read(text)
-            self.same(first_word(mirrors, longest_of(mirrors)), right)
+            self.same(first_word(mirrors, longest_word(mirrors)), right)
 
     def test_no_word_is_longest_without_an_end(self):
         for text in ENDLESS:
