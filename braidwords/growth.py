@@ -45,7 +45,7 @@ def inverse_of(shares, lot, inverses):
 
     The series W of a lot, divided by that of one of its lots, counts the elements that no letter of that one shortens
     from behind. Take these with the sign + for lots of an even number of letters, - for odd ones, and all together
-    leave each element out, but for the one that all letters shorten, if there is such one. So the sum of the signed
+    leave each element out, but for the one that all letters shorten, if there is one. So the sum of the signed
     inverses of all the lots is the inverse of W, times the power of the greatest length if there is one, else 0.
     """
     letters = letters_of(shares, lot)

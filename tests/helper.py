@@ -203,6 +203,14 @@ class Plain:
         return [x for x in told if len(x) == len(told[0])]
 
 
+def some_plains():
+    """Plain searches for all mirrors of up to three letters and for some greater ones."""
+    for at, mirrors in enumerate(small_mirrors()):
+        yield Plain(mirrors, 4 if at % 10 else 6)
+    for mirrors in some_mirrors()[-75::10]:
+        yield Plain(mirrors, 4 if mirrors.size < 6 else 3)
+
+
 # Ways to know the elements of some mirrors for words of any size.
 
 def as_order(word):

@@ -9,8 +9,8 @@ from braidwords.beginnings import common, how_many_beginnings, is_beginning
 from braidwords.errors import TooMany
 from braidwords.lengths import first_word, is_shortest, length
 from braidwords.mirrors import Mirrors
-from helper import FINITE, MODELS, Case, Plain, all_alike, as_free, as_order, beside, chain, drawn_word, longest_word
-from helper import small_mirrors, some_mirrors, walked, wrong_mirrors, wrong_words
+from helper import FINITE, MODELS, Case, all_alike, as_free, as_order, beside, chain, drawn_word, longest_word
+from helper import some_mirrors, some_plains, walked, wrong_mirrors, wrong_words
 
 THREE = Mirrors(3, (("a", "b", 3), ("b", "c", 3)))
 TWO = Mirrors.read("ab ab0")
@@ -53,19 +53,13 @@ class InterfaceTest(Case):
 class ShortWordsTest(Case):
     """Against a plain search through all shortest words."""
 
-    def plains(self):
-        for at, mirrors in enumerate(small_mirrors()):
-            yield Plain(mirrors, 4 if at % 10 else 6)
-        for mirrors in some_mirrors()[-75::10]:
-            yield Plain(mirrors, 4 if mirrors.size < 6 else 3)
-
     def beginnings_of(self, plain, word):
         """The first words of all beginnings."""
         return {plain.first(told[:k]) for told in plain.shortest(word) for k in range(len(told) + 1)}
 
     def test_all(self):
         draw = random.Random(27)
-        for plain in self.plains():
+        for plain in some_plains():
             mirrors = plain.mirrors
             for one in draw.sample(plain.words, min(60, len(plain.words))):
                 told = self.beginnings_of(plain, one)

@@ -9,8 +9,8 @@ from braidwords.errors import InvalidIndex, InvalidWord, NotShortest
 from braidwords.lengths import first_word, is_shortest, length, struck
 from braidwords.mirrors import Mirrors
 from braidwords.sending import is_alike
-from helper import ANYTHING, Case, Plain, all_alike, beside, chain, drawn_word, drawn_words, longest_word
-from helper import numbers_of, plain_turnings, small_mirrors, some_mirrors, wrong_mirrors, wrong_words
+from helper import ANYTHING, Case, all_alike, beside, chain, drawn_word, drawn_words, longest_word, numbers_of
+from helper import plain_turnings, some_mirrors, some_plains, wrong_mirrors, wrong_words
 
 THREE = Mirrors(3, (("a", "b", 3), ("b", "c", 3)))
 RING = Mirrors.read("abc ab3 ac3 bc3")
@@ -81,14 +81,8 @@ class InterfaceTest(Case):
 class ShortWordsTest(Case):
     """Against a plain search."""
 
-    def plains(self):
-        for at, mirrors in enumerate(small_mirrors()):
-            yield Plain(mirrors, 4 if at % 10 else 6)
-        for mirrors in some_mirrors()[-75::10]:
-            yield Plain(mirrors, 4 if mirrors.size < 6 else 3)
-
     def test_all(self):
-        for plain in self.plains():
+        for plain in some_plains():
             for word in plain.words:
                 words = plain.shortest(word)
                 self.same(how_many(plain.mirrors, word), len(words))

@@ -12,7 +12,7 @@ from braidwords.lengths import first_word, left_shorteners, length, shorteners
 from braidwords.mirrors import Mirrors
 from braidwords.sending import rows_of, send
 from helper import ALL, ANYTHING, ENDLESS, FINITE, NUMBERS, Case, Plain, all_alike, all_angles, anything_but, beside
-from helper import chain, longest_word, numbers_of, renamed, small_mirrors, some_mirrors, triples, wrong_mirrors
+from helper import longest_word, numbers_of, renamed, small_mirrors, some_mirrors, triples, wrong_mirrors
 
 THREE = Mirrors(3, (("a", "b", 3), ("b", "c", 3)))
 RING = Mirrors.read("abc ab3 ac3 bc3")

@@ -7,8 +7,8 @@ import unittest
 from braidwords.errors import InvalidWord
 from braidwords.lengths import first_word, is_shortest, left_shorteners, length, shorteners, struck
 from braidwords.mirrors import Mirrors
-from helper import ENDLESS, FINITE, MODELS, Case, Plain, all_alike, as_free, drawn_words, longest_word, renamed
-from helper import small_mirrors, some_mirrors, walked, wrong_mirrors, wrong_words
+from helper import ENDLESS, FINITE, MODELS, Case, all_alike, as_free, drawn_words, longest_word, renamed, some_mirrors
+from helper import some_plains, walked, wrong_mirrors, wrong_words
 
 THREE = Mirrors(3, (("a", "b", 3), ("b", "c", 3)))
 RING = Mirrors.read("abc ab3 ac3 bc3")
@@ -49,26 +49,20 @@ class InterfaceTest(Case):
 class ShortWordsTest(Case):
     """Against a plain search through all words of a few letters more."""
 
-    def plains(self):
-        for at, mirrors in enumerate(small_mirrors()):
-            yield Plain(mirrors, 5 if at % 10 else 7)
-        for mirrors in some_mirrors()[-75::10]:
-            yield Plain(mirrors, 4 if mirrors.size < 6 else 3)
-
     def test_lengths(self):
-        for plain in self.plains():
+        for plain in some_plains():
             for word in plain.words:
                 self.same(length(plain.mirrors, word), plain.length(word))
                 self.assertIs(is_shortest(plain.mirrors, word), plain.length(word) == len(word))
                 self.same(first_word(plain.mirrors, word), plain.first(word))
 
     def test_struck(self):
-        for plain in self.plains():
+        for plain in some_plains():
             for word in plain.words:
                 self.same(struck(plain.mirrors, word), plain_struck(word, plain.first))
 
     def test_shorteners(self):
-        for plain in self.plains():
+        for plain in some_plains():
             for word in [word for word in plain.words if len(word) < len(plain.words[-1])]:
                 behind = [x for x in plain.mirrors.letters if plain.length(word + x) < plain.length(word)]
                 ahead = [x for x in plain.mirrors.letters if plain.length(x + word) < plain.length(word)]

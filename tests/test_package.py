@@ -157,6 +157,7 @@ class PackageTest(unittest.TestCase):
         for name, tree in self.trees():
             modules = [node.module for node in tree.body if isinstance(node, ast.ImportFrom)]
             needs[name] = {module.split(".")[-1] + ".py" for module in modules}
+        # The name of that file is one that L17 bars; it must exist, but no other file needs to name it.
         self.assertNotIn("elements.py", set().union(*needs.values()))
         while needs:
             free = [name for name in needs if not needs[name] & set(needs)]

@@ -9,8 +9,8 @@ from braidwords.lengths import first_word, is_shortest, length, struck
 from braidwords.mirrors import Mirrors
 from braidwords.sending import is_alike
 from braidwords.under import how_many_under, is_under, just_under, part_word
-from helper import FINITE, Case, Plain, all_alike, as_free, as_order, beside, chain, drawn_word, drawn_words
-from helper import longest_word, small_mirrors, some_mirrors, walked, wrong_mirrors, wrong_words
+from helper import FINITE, Case, all_alike, as_free, as_order, beside, chain, drawn_word, drawn_words, longest_word
+from helper import some_mirrors, some_plains, walked, wrong_mirrors, wrong_words
 
 THREE = Mirrors(3, (("a", "b", 3), ("b", "c", 3)))
 TWO = Mirrors.read("ab ab0")
@@ -77,12 +77,6 @@ class PartCase(Case):
 class ShortWordsTest(PartCase):
     """Against a plain search through all parts of the shortest words."""
 
-    def plains(self):
-        for at, mirrors in enumerate(small_mirrors()):
-            yield Plain(mirrors, 4 if at % 10 else 6)
-        for mirrors in some_mirrors()[-75::10]:
-            yield Plain(mirrors, 4 if mirrors.size < 6 else 3)
-
     def under_all(self, plain):
         """For each element, by its first word, the first words of all under it."""
         firsts = [word for word in plain.words if plain.first(word) == word]
@@ -90,7 +84,7 @@ class ShortWordsTest(PartCase):
 
     def test_pairs(self):
         draw = random.Random(23)
-        for plain in self.plains():
+        for plain in some_plains():
             under = self.under_all(plain)
             for other in draw.sample(plain.words, min(60, len(plain.words))):
                 right = under[plain.first(other)]
@@ -103,7 +97,7 @@ class ShortWordsTest(PartCase):
                     self.check_part(plain.mirrors, one, draw.choice(plain.shortest(other)), True)
 
     def test_all_under_a_word(self):
-        for plain in self.plains():
+        for plain in some_plains():
             under = self.under_all(plain)
             for word in plain.words[::2]:
                 first = plain.first(word)
