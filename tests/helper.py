@@ -5,7 +5,7 @@ import itertools
 import random
 import unittest
 
-from braidwords.errors import InvalidWord, NotMirrors
+from braidwords.errors import InvalidLetter, InvalidLot, InvalidWord, NotMirrors
 from braidwords.lengths import is_shortest
 from braidwords.mirrors import Mirrors
 
@@ -164,6 +164,24 @@ def is_one_step(numbers, word, other):
     return other in plain_turnings(numbers, word) or other in plain_strikings(word) or word in plain_strikings(other)
 
 
+def plain_turned(numbers, word, index):
+    """The word with the turning at this index, None if there is none."""
+    for (x, y), m in numbers.items():
+        if m and word[index:index + m] == "".join([x, y] * m)[:m]:
+            return word[:index] + "".join([y, x] * m)[:m] + word[index + m:]
+    return None
+
+
+def parts_of(word):
+    """All words got by leaving letters out, none or more."""
+    return {"".join(part) for many in range(len(word) + 1) for part in itertools.combinations(word, many)}
+
+
+def lots_of(letters):
+    """All lots of these letters."""
+    return ["".join(lot) for many in range(len(letters) + 1) for lot in itertools.combinations(letters, many)]
+
+
 class Plain:
     """The elements of all words of up to so many letters, by a plain search through turnings, strikings, puttings."""
 
@@ -201,6 +219,9 @@ class Plain:
     def shortest(self, word):
         told = self.alike[word]
         return [x for x in told if len(x) == len(told[0])]
+
+    def is_under(self, one, other):
+        return self.first(one) in {self.first(part) for part in parts_of(self.first(other))}
 
 
 def some_plains():
@@ -325,6 +346,36 @@ def wrong_words(letters):
     return [(given, InvalidWord, {"given": given}) for given in wrong]
 
 
+def wrong_letters(letters):
+    """What is none of these letters, as `refused` takes it."""
+    wrong = [
+        *ANYTHING, *ALL[len(letters):], letters + "a", "aa", "a ", " a", "\n", "a\n", "A", "`", "{", ("a",), ["a"],
+        b"a",
+    ]
+    return [(given, InvalidLetter, {"given": given}) for given in wrong]
+
+
+def wrong_lots(letters):
+    """What is no lot of these letters, as `refused` takes it."""
+    right = [x for x in ANYTHING if isinstance(x, str) and x in lots_of(letters)]
+    wrong = [
+        *anything_but(*right), *ALL[len(letters):], letters + "g", letters + letters[-1], letters[0] * 2, " ", "A",
+        letters.upper(), letters + " ", letters + "\n", *([letters[::-1], letters[1::-1]] if len(letters) > 1 else []),
+        tuple(letters), list(letters), letters.encode(), letters + "0",
+    ]
+    return [(given, InvalidLot, {"given": given}) for given in wrong]
+
+
+class Equal:
+    """Says that it equals whatever it is asked about."""
+
+    def __eq__(self, other):
+        return True
+
+    def __ne__(self, other):
+        return False
+
+
 class Case(unittest.TestCase):
     def refuses(self, error, attributes, call, *args, **named):
         """The call raises just this error with just these attributes."""
@@ -361,6 +412,18 @@ class Case(unittest.TestCase):
         for parameter in told.values():
             self.assertIs(parameter.kind, inspect.Parameter.POSITIONAL_OR_KEYWORD)
             self.assertIs(parameter.default, inspect.Parameter.empty)
+
+    def equals_itself_alone(self, thing, *others):
+        """It is true, equals itself, and none of the others, whatever they are."""
+        self.assertIs(bool(thing), True)
+        self.assertIs(thing == thing, True)
+        self.assertIs(thing != thing, False)
+        for other in [*ANYTHING, Mirrors(1, ()), Equal(), *others]:
+            self.assertIs(thing == other, False)
+            self.assertIs(thing != other, True)
+        for other in [*ANYTHING, Mirrors(1, ()), *others]:
+            self.assertIs(other == thing, False)
+            self.assertIs(other != thing, True)
 
     def same(self, told, right):
         """Both are equal, with the same kinds of values throughout, also inside of tuples."""

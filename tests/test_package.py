@@ -133,14 +133,55 @@ class PackageTest(unittest.TestCase):
             for node in ast.walk(tree):
                 self.assertNotIsInstance(node, ast.GeneratorExp, name)
 
-    def test_is_only_beside_none_true_and_false(self):
+    def test_is_only_beside_none_true_false_and_self(self):
         for name, tree in self.trees():
             for node in ast.walk(tree):
                 if isinstance(node, ast.Compare):
                     for sign, value in zip(node.ops, node.comparators):
-                        if isinstance(sign, (ast.Is, ast.IsNot)):
+                        if isinstance(sign, (ast.Is, ast.IsNot)) and ast.unparse(node) != "self is other":
                             self.assertIsInstance(value, ast.Constant, name)
                             self.assertIn(value.value, (None, True, False), name)
+
+    def test_an_equal_asks_for_its_class_first(self):
+        for name, tree in self.trees():
+            for made in [node for node in ast.walk(tree) if isinstance(node, ast.ClassDef)]:
+                for node in made.body:
+                    if isinstance(node, ast.FunctionDef) and node.name == "__eq__":
+                        self.assertTrue(
+                            ast.unparse(node.body[0]).startswith(f"return isinstance(other, {made.name}) and "), name)
+
+    def test_no_method_is_read_off_a_class(self):
+        # Beside `self is other` (L20), and where a name is a method here and an attribute there (L18).
+        made = [node.name for _, tree in self.trees() for node in ast.walk(tree) if isinstance(node, ast.ClassDef)]
+        for name, tree in self.trees():
+            for node in ast.walk(tree):
+                if isinstance(node, ast.Attribute) and isinstance(node.value, ast.Name):
+                    self.assertNotIn(node.value.id, made, name)
+
+    def test_names_of_properties(self):
+        # A property is no method and no attribute, in whatever class (L5, L18).
+        properties, methods, stored = set(), set(), set()
+        for _, tree in self.trees():
+            for made in [node for node in ast.walk(tree) if isinstance(node, ast.ClassDef)]:
+                for node in [node for node in made.body if isinstance(node, ast.FunctionDef)]:
+                    told = [ast.unparse(x) for x in node.decorator_list]
+                    (properties if told == ["property"] else methods).add(node.name)
+            for node in ast.walk(tree):
+                if isinstance(node, ast.Attribute) and isinstance(node.ctx, ast.Store):
+                    stored.add(node.attr)
+        self.assertFalse(properties & methods)
+        self.assertFalse((properties | methods) & stored)
+        self.assertFalse(properties & METHODS)
+
+    def test_rows_of_an_exit(self):
+        for name, tree in self.trees():
+            for node in ast.walk(tree):
+                if isinstance(node, ast.FunctionDef) and node.name == "__exit__":
+                    self.assertEqual([x.arg for x in node.args.args], ["self", "kind", "value", "trace"])
+                    for row in ast.walk(node):
+                        self.assertNotIsInstance(row, (ast.Call, ast.Subscript, ast.Raise, ast.For, ast.While), name)
+                        if isinstance(row, ast.Name):
+                            self.assertNotIn(row.id, ("value", "trace"), name)
 
     def test_locals_do_not_hide_what_the_file_binds(self):
         for name, tree in self.trees():

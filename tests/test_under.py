@@ -1,6 +1,5 @@
 """Which elements lie under which: point [10] and the interface."""
 
-import itertools
 import random
 import unittest
 
@@ -10,16 +9,11 @@ from braidwords.mirrors import Mirrors
 from braidwords.sending import is_alike
 from braidwords.under import how_many_under, is_under, just_under, part_word
 from helper import FINITE, Case, all_alike, as_free, as_order, beside, chain, drawn_word, drawn_words, longest_word
-from helper import some_mirrors, some_plains, walked, wrong_mirrors, wrong_words
+from helper import parts_of, some_mirrors, some_plains, walked, wrong_mirrors, wrong_words
 
 THREE = Mirrors(3, (("a", "b", 3), ("b", "c", 3)))
 TWO = Mirrors.read("ab ab0")
 PAIRS = Mirrors.read("abcdef ab0 cd0 ef0")
-
-
-def parts_of(word):
-    """All words got by leaving letters out, none or more."""
-    return {"".join(part) for many in range(len(word) + 1) for part in itertools.combinations(word, many)}
 
 
 def is_order_under(one, other):
