@@ -1,7 +1,7 @@
 """How many elements there are, in all and of each length."""
 
 from braidwords.errors import InvalidNumber
-from braidwords.growth import counts_of, full_word
+from braidwords.growth import counts_of, full_word, number_of_all
 from braidwords.heights import first_of, heights_of
 from braidwords.kinds import is_integer_between
 from braidwords.limits import MOST_LENGTH
@@ -16,8 +16,8 @@ def is_finite(mirrors):
 
 def order(mirrors):
     """How many elements there are, None if there is no end of them."""
-    word = longest(mirrors)
-    return None if word is None else sum(counts_of(shares_of(mirrors), len(word)))
+    check_mirrors(mirrors)
+    return number_of_all(mirrors)
 
 
 def longest(mirrors):

@@ -1,10 +1,18 @@
 """How many elements there are of each length, and whether there is an end of them."""
 
 from braidwords.heights import empty_heights, put_ahead, shortening
+from braidwords.rows import shares_of
 
 # Where there is an end of the elements, none of them is longer. So long they are with six letters that have the numbers
 # 4, 3, 3, 3, 3 each with the next one, and with those that have the most elements for the numbers 2 and 3 alone.
 GREATEST_LENGTH = 36
+
+
+def number_of_all(mirrors):
+    """How many elements there are, None if there is no end of them."""
+    shares = shares_of(mirrors)
+    full = full_word(shares, mirrors.letters)
+    return None if full is None else sum(counts_of(shares, len(full)))
 
 
 def full_word(shares, letters):

@@ -5,6 +5,10 @@ from braidwords.limits import MOST_WORD
 # As many letters as mirrors may have.
 ALPHABET = "abcdef"
 
+# The letters of names, and how many of them a name has at most.
+NAME_LETTERS = "abcdefghijklmnopqrstuvwxyz"
+MOST_NAME = 8
+
 
 def is_integer(value):
     """Whether it is an integer; True and False are none."""
@@ -29,3 +33,13 @@ def is_lot(letters, value):
 def is_word(letters, value):
     """Whether it is a word of these letters."""
     return isinstance(value, str) and len(value) <= MOST_WORD and all([x in letters for x in value])
+
+
+def is_of_letters(value):
+    """Whether it is a string of one or more letters from a to z."""
+    return isinstance(value, str) and value != "" and all([x in NAME_LETTERS for x in value])
+
+
+def is_name(value):
+    """Whether it is a name."""
+    return is_of_letters(value) and len(value) <= MOST_NAME

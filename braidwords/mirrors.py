@@ -31,13 +31,10 @@ class Mirrors:
     @classmethod
     def read(cls, text):
         """The mirrors with this text."""
-        if not isinstance(text, str):
+        told = told_by(text)
+        if told is None:
             raise InvalidText(text)
-        letters, *words = text.split(" ")
-        size = len(letters)
-        angles = tuple([triple_of(word) for word in words])
-        if size == 0 or letters != ALPHABET[:size] or first_wrong(letters, angles) is not None:
-            raise InvalidText(text)
+        size, angles = told
         return cls(size, angles)
 
     @property
@@ -145,6 +142,18 @@ def is_triple(letters, value):
     if not is_letter(letters, x) or not is_letter(letters, y) or not is_integer(number):
         return False
     return x < y and number in TOLD_NUMBERS
+
+
+def told_by(text):
+    """The pair of the size and the angles that a text of mirrors tells; None if it is none."""
+    if not isinstance(text, str):
+        return None
+    letters, *words = text.split(" ")
+    size = len(letters)
+    angles = tuple([triple_of(word) for word in words])
+    if size == 0 or letters != ALPHABET[:size] or first_wrong(letters, angles) is not None:
+        return None
+    return size, angles
 
 
 def triple_of(word):

@@ -21,11 +21,32 @@ def nested(depth):
     return value
 
 
+class Equal:
+    """Says that it equals whatever it is asked about."""
+
+    def __eq__(self, other):
+        return True
+
+    def __ne__(self, other):
+        return False
+
+
+class Sour:
+    """Can be asked for nothing at all."""
+
+    def refusing(self, *told):
+        raise RuntimeError("asked")
+
+    __eq__ = __ne__ = __lt__ = __le__ = __gt__ = __ge__ = __hash__ = __len__ = __bool__ = refusing
+    __iter__ = __getitem__ = __contains__ = __index__ = __int__ = __str__ = __add__ = __radd__ = refusing
+
+
 # Values of every kind that an argument may be, wherever an error is told for it.
 ANYTHING = [
     None, True, False, 0, 1, -1, 7, 10**59, "", " ", "g", "A", "ab", "ba", "aa", "abc", "abc ab3\n", "x" * 8000,
     b"a", b"", (), ("a",), ("a", "b", 3), [], ["a"], {}, {"a": 1}, set(), {"a"}, frozenset(), range(3),
     object(), object, int, str, tuple, len, lambda: None, NotImplemented, ..., nested(20), ValueError("a"),
+    Equal(), Sour(),
 ]
 
 
@@ -328,6 +349,14 @@ def longest_word(mirrors):
     return word
 
 
+def shortest_word(draw, mirrors):
+    """A shortest word of 60 letters; there must be no end of the elements."""
+    word = ""
+    while len(word) < 60:
+        word += draw.choice([x for x in mirrors.letters if is_shortest(mirrors, word + x)])
+    return word
+
+
 # Wrong arguments.
 
 def wrong_mirrors():
@@ -364,16 +393,6 @@ def wrong_lots(letters):
         tuple(letters), list(letters), letters.encode(), letters + "0",
     ]
     return [(given, InvalidLot, {"given": given}) for given in wrong]
-
-
-class Equal:
-    """Says that it equals whatever it is asked about."""
-
-    def __eq__(self, other):
-        return True
-
-    def __ne__(self, other):
-        return False
 
 
 class Case(unittest.TestCase):
@@ -418,12 +437,12 @@ class Case(unittest.TestCase):
         self.assertIs(bool(thing), True)
         self.assertIs(thing == thing, True)
         self.assertIs(thing != thing, False)
-        for other in [*ANYTHING, Mirrors(1, ()), Equal(), *others]:
+        for other in [*ANYTHING, Mirrors(1, ()), *others]:
             self.assertIs(thing == other, False)
             self.assertIs(thing != other, True)
-        for other in [*ANYTHING, Mirrors(1, ()), *others]:
-            self.assertIs(other == thing, False)
-            self.assertIs(other != thing, True)
+            if type(other) not in (Equal, Sour):
+                self.assertIs(other == thing, False)
+                self.assertIs(other != thing, True)
 
     def same(self, told, right):
         """Both are equal, with the same kinds of values throughout, also inside of tuples."""

@@ -4,12 +4,12 @@ import random
 import unittest
 
 from braidwords.errors import InvalidRows
-from braidwords.lengths import first_word, is_shortest, left_shorteners, length, shorteners
+from braidwords.lengths import first_word, left_shorteners, length, shorteners
 from braidwords.lots import inner, is_part, parted, support, word_of_rows
 from braidwords.mirrors import Mirrors
 from braidwords.sending import is_alike, turned_rows
 from helper import ANYTHING, ENDLESS, FINITE, MODELS, Case, all_alike, as_free, drawn_word, longest_word, lots_of
-from helper import some_mirrors, some_plains, walked, wrong_lots, wrong_mirrors, wrong_words
+from helper import shortest_word, some_mirrors, some_plains, walked, wrong_lots, wrong_mirrors, wrong_words
 
 THREE = Mirrors(3, (("a", "b", 3), ("b", "c", 3)))
 TWO = Mirrors.read("ab ab0")
@@ -280,9 +280,7 @@ class RowsTest(Case):
         draw = random.Random(49)
         for text in ENDLESS:
             mirrors = Mirrors.read(text)
-            word = ""
-            while len(word) < 60:
-                word += draw.choice([x for x in mirrors.letters if is_shortest(mirrors, word + x)])
+            word = shortest_word(draw, mirrors)
             rows = turned_rows(mirrors, word)
             self.same(word_of_rows(mirrors, tuple(draw.sample(rows, 60))), first_word(mirrors, word))
         plain = tuple((k, 0, 0) for k in range(70))

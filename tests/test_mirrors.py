@@ -5,7 +5,8 @@ import unittest
 
 from braidwords.errors import InvalidAngles, InvalidLetter, InvalidLot, InvalidNumber, InvalidText, NotMirrors
 from braidwords.mirrors import Mirrors, angle, part
-from helper import ALL, ANYTHING, Case, all_angles, anything_but, pairs_of, some_mirrors, spread, text_told, triples
+from helper import ALL, ANYTHING, Case, Equal, Sour, all_angles, anything_but, pairs_of, some_mirrors, spread
+from helper import text_told, triples
 
 
 class InterfaceTest(Case):
@@ -208,9 +209,10 @@ class ObjectsTest(Case):
         mirrors = Mirrors.read("ab ab3")
         for other in [*ANYTHING, "ab ab3", b"ab ab3", 2, (2, (("a", "b", 3),)), Mirrors, mirrors.angles]:
             self.assertIs(mirrors == other, False)
-            self.assertIs(other == mirrors, False)
             self.assertIs(mirrors != other, True)
-            self.assertIs(other != mirrors, True)
+            if type(other) not in (Equal, Sour):
+                self.assertIs(other == mirrors, False)
+                self.assertIs(other != mirrors, True)
 
     def test_true(self):
         for mirrors in some_mirrors():

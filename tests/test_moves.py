@@ -12,7 +12,7 @@ from braidwords.moves import fewest_turnings, path, steps, strikings, turnings
 from braidwords.sending import unlike_letter
 from helper import ENDLESS, FINITE, MODELS, NUMBERS, Case, Plain, all_alike, beside, chain, drawn_word, drawn_words
 from helper import is_one_step, longest_word, numbers_of, plain_strikings, plain_turnings, renamed, small_mirrors
-from helper import some_mirrors, walked, words_of, wrong_mirrors, wrong_words
+from helper import shortest_word, some_mirrors, walked, words_of, wrong_mirrors, wrong_words
 
 THREE = Mirrors(3, (("a", "b", 3), ("b", "c", 3)))
 TWO = Mirrors.read("ab ab0")
@@ -168,9 +168,7 @@ class WaysTest(Case):
         draw = random.Random(15)
         for text in ENDLESS:
             mirrors = Mirrors.read(text)
-            word = ""
-            while len(word) < 60:
-                word += draw.choice([x for x in mirrors.letters if is_shortest(mirrors, word + x)])
+            word = shortest_word(draw, mirrors)
             self.check_steps(mirrors, word, first_word(mirrors, word))
             self.check_steps(mirrors, word[::-1], first_word(mirrors, word[::-1]))
 
