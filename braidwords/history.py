@@ -43,7 +43,8 @@ class Trial:
     def __init__(self, owner, history, lasting):
         self.owner = owner
         self.history = history
-        self.lasting = lasting
+        # When the rows end, nothing may be asked but whether something is None.
+        self.lasting = True if lasting else None
         self.kept = None
 
     def __enter__(self):
@@ -52,7 +53,7 @@ class Trial:
 
     def __exit__(self, kind, value, trace):
         history = self.history
-        if kind is not None or not self.lasting:
+        if kind is not None or self.lasting is None:
             history.state = self.kept.state
             history.earlier = self.kept.earlier
         self.kept = self.kept.outer

@@ -182,6 +182,22 @@ class PackageTest(unittest.TestCase):
                         self.assertNotIsInstance(row, (ast.Call, ast.Subscript, ast.Raise, ast.For, ast.While), name)
                         if isinstance(row, ast.Name):
                             self.assertNotIn(row.id, ("value", "trace"), name)
+                        if isinstance(row, ast.If):
+                            self.assert_asks_for_none(row.test)
+                        self.assertNotIsInstance(row, (ast.IfExp, ast.Assert, ast.Match), name)
+
+    def assert_asks_for_none(self, test):
+        """Beside an `__eq__` a test of an `__exit__` asks `is None` or `is not None` of names and attributes alone."""
+        if isinstance(test, ast.BoolOp):
+            for value in test.values:
+                self.assert_asks_for_none(value)
+        elif isinstance(test, ast.UnaryOp):
+            self.assertIsInstance(test.op, ast.Not)
+            self.assert_asks_for_none(test.operand)
+        else:
+            self.assertIsInstance(test, ast.Compare, ast.unparse(test))
+            self.assertIsInstance(test.left, (ast.Name, ast.Attribute), ast.unparse(test))
+            self.assertIn(ast.unparse(test)[len(ast.unparse(test.left)):], (" is None", " is not None"))
 
     def test_locals_do_not_hide_what_the_file_binds(self):
         for name, tree in self.trees():
