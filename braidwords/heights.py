@@ -7,7 +7,7 @@ one, read backwards, the other has the heights of the empty word then, all of th
 is alike to the empty word itself. So a tuple of a few integers stands for a whole element.
 """
 
-from braidwords.kinds import ALPHABET
+from braidwords.kinds import PLACES
 
 
 def empty_heights(shares):
@@ -17,7 +17,7 @@ def empty_heights(shares):
 
 def put_ahead(shares, letter, heights):
     """The heights of the element with this letter put ahead."""
-    own = heights[ALPHABET.index(letter)]
+    own = heights[PLACES[letter]]
     return tuple([height + share * own for height, share in zip(heights, shares[letter])])
 
 

@@ -5,6 +5,10 @@ from braidwords.limits import MOST_WORD
 # As many letters as mirrors may have.
 ALPHABET = "abcdef"
 
+# The place of each of them: a table, since what a property runs calls no method that has the name of an attribute, and
+# the errors have one called `index`.
+PLACES = {"a": 0, "b": 1, "c": 2, "d": 3, "e": 4, "f": 5}
+
 # The letters of names, and how many of them a name has at most.
 NAME_LETTERS = "abcdefghijklmnopqrstuvwxyz"
 MOST_NAME = 8

@@ -3,7 +3,7 @@
 Where a function takes `shares`, they are those that `shares_of` tells of the mirrors.
 """
 
-from braidwords.kinds import ALPHABET
+from braidwords.kinds import PLACES
 from braidwords.mirrors import number_between
 
 # The number c(x, y) for each angle number: with x less than y, and with x greater than y.
@@ -32,7 +32,7 @@ def single_row(shares, letter):
 
 def send_by_letter(shares, letter, row):
     """The row that a letter sends this one to."""
-    at = ALPHABET.index(letter)
+    at = PLACES[letter]
     more = sum([share * number for share, number in zip(shares[letter], row)])
     return row[:at] + (row[at] + more,) + row[at + 1:]
 

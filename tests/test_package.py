@@ -1,4 +1,4 @@
-"""The rules of LANGUAGE.md that can be seen line by line (L1, L2, L4, L6 to L8, L10, L14 to L18, L20, L23 to L25)."""
+"""The rules of LANGUAGE.md that can be seen line by line (L1, L2, L4 to L8, L10, L14 to L18, L20, L23 to L25)."""
 
 import ast
 import builtins
@@ -198,6 +198,65 @@ class PackageTest(unittest.TestCase):
             self.assertIsInstance(test, ast.Compare, ast.unparse(test))
             self.assertIsInstance(test.left, (ast.Name, ast.Attribute), ast.unparse(test))
             self.assertIn(ast.unparse(test)[len(ast.unparse(test.left)):], (" is None", " is not None"))
+
+    def test_what_properties_and_operators_run(self):
+        # They change nothing, and call nothing that they are handed or hold, nor does what they call (L5).
+        stored = {node.attr for _, tree in self.trees() for node in ast.walk(tree)
+                  if isinstance(node, ast.Attribute) and isinstance(node.ctx, ast.Store)}
+        self.assertIn("index", stored)
+        for name, node in self.run_by_properties_and_operators():
+            for row in ast.walk(node):
+                if isinstance(row, ast.Call):
+                    self.assert_right_call(name, row, stored)
+                self.assertNotIsInstance(row, (ast.Delete, ast.Yield, ast.YieldFrom, ast.Nonlocal), (name, node.name))
+                if isinstance(row, (ast.Attribute, ast.Subscript)):
+                    self.assertIsInstance(row.ctx, ast.Load, (name, node.name, ast.unparse(row)))
+
+    def assert_right_call(self, name, row, stored):
+        """A call of a function or class by its bare name, or of a method that is none of an own object."""
+        if isinstance(row.func, ast.Name):
+            self.assertIn(row.func.id, {*ALLOWED, *self.reachable(name)}, (name, ast.unparse(row)))
+            self.assertNotIn(row.func.id, ("map", "setattr"), (name, ast.unparse(row)))
+        else:
+            self.assertIsInstance(row.func, ast.Attribute, (name, ast.unparse(row)))
+            self.assertNotIn(row.func.attr, stored, (name, ast.unparse(row)))
+            # None of them creates what it could change.
+            self.assertIn(row.func.attr, ("join", "get", "split"), (name, ast.unparse(row)))
+
+    def reachable(self, name):
+        """For each function and class that a file has, own or imported, its file and its definition."""
+        told = {}
+        tree = ast.parse((FOLDER / name).read_text())
+        for node in tree.body:
+            if isinstance(node, (ast.FunctionDef, ast.ClassDef)):
+                told[node.name] = (name, node)
+            elif isinstance(node, ast.ImportFrom):
+                path = node.module.split(".")[-1] + ".py"
+                for made in ast.parse((FOLDER / path).read_text()).body:
+                    if getattr(made, "name", None) in [alias.name for alias in node.names]:
+                        told[made.name] = (path, made)
+        return told
+
+    def run_by_properties_and_operators(self):
+        """The files and definitions of all that they run, themselves too; what is only created is not gone into."""
+        ahead = []
+        for name, tree in self.trees():
+            for made in [node for node in tree.body if isinstance(node, ast.ClassDef)]:
+                for node in [node for node in made.body if isinstance(node, ast.FunctionDef)]:
+                    free = node.name in ("__init__", "__enter__", "__exit__") or not node.name.startswith("__")
+                    if not free or "property" in [ast.unparse(x) for x in node.decorator_list]:
+                        ahead.append((name, node))
+        self.assertIn(("boards.py", "length"), [(name, node.name) for name, node in ahead])
+        found = {}
+        while ahead:
+            name, node = ahead.pop()
+            if (name, node.name, node.lineno) not in found:
+                found[name, node.name, node.lineno] = name, node
+                there = self.reachable(name)
+                called = [there[x.id] for x in ast.walk(node) if isinstance(x, ast.Name) and x.id in there]
+                ahead.extend([(path, made) for path, made in called if isinstance(made, ast.FunctionDef)])
+        self.assertIn(("heights.py", "put_ahead"), [(name, node.name) for name, node in found.values()])
+        return list(found.values())
 
     def test_locals_do_not_hide_what_the_file_binds(self):
         for name, tree in self.trees():
